@@ -34,6 +34,10 @@ OWN_METHODS = set("""
 # L5.
 UNDERSCORED = {"__init__", "__eq__", "__repr__", "__str__", "__len__"}
 
+# L23, without the methods.
+WALKED = ("zip", "enumerate", "reversed", "range")
+WALKERS = ("list", "tuple", "dict", "sorted", "sum", "any", "all", "enumerate", "zip", "min", "max")
+
 # L17's last list.
 WORDS = re.compile(
     r"\b(type|typing|typing_extensions|enum|Enum|IntEnum|StrEnum|Flag|IntFlag|Generic|Protocol|ABC|ABCMeta"
@@ -59,6 +63,34 @@ def name_of(node):
         if isinstance(getattr(node, field, None), str):
             return getattr(node, field)
     return None
+
+
+def called(node):
+    """The name of the plain function or class that a node calls, if it calls one."""
+    if isinstance(node, ast.Call) and isinstance(node.func, ast.Name):
+        return node.func.id
+    return None
+
+
+def parts(node):
+    """What the operators of an expression stand between."""
+    if isinstance(node, ast.BinOp):
+        return parts(node.left) + parts(node.right)
+    return [node]
+
+
+def placed_nodes():
+    """Every node with the one that it stands in."""
+    return [(name, node, above) for name, above in nodes() for node in ast.iter_child_nodes(above)]
+
+
+def top_names(tree):
+    names = [node.name for node in tree.body if isinstance(node, (ast.FunctionDef, ast.ClassDef))]
+    return names + [node.targets[0].id for node in tree.body if isinstance(node, ast.Assign)]
+
+
+def drawn_from(tree):
+    return {node.module.partition(".")[2] for node in ast.walk(tree) if isinstance(node, ast.ImportFrom)}
 
 
 class LanguageTest(unittest.TestCase):
@@ -118,7 +150,7 @@ class LanguageTest(unittest.TestCase):
                     self.assertFalse(hasattr(kind, node.attr))
 
     def test_imports_draw_from_the_file_that_defines_the_name(self):
-        defined = {name[:-3]: [getattr(node, "name", None) for node in tree.body] for name, tree in parsed()}
+        defined = {name[:-3]: top_names(tree) for name, tree in parsed()}
         for name, node in nodes():
             if not isinstance(node, ast.ImportFrom):
                 continue
@@ -128,6 +160,61 @@ class LanguageTest(unittest.TestCase):
                 self.assertEqual(package, "lampyard")
                 for alias in node.names:
                     self.assertIn(alias.name, defined[module])
+
+    def test_no_two_files_draw_from_one_another(self):
+        left = {name[:-3]: drawn_from(tree) for name, tree in parsed()}
+        while left:
+            free = [name for name, drawn in left.items() if not drawn & set(left)]
+            self.assertNotEqual(free, [])
+            left = {name: drawn for name, drawn in left.items() if name not in free}
+
+    def test_no_local_is_called_like_a_class_or_an_import_of_its_file(self):
+        for name, tree in parsed():
+            taken = {node.name for node in tree.body if isinstance(node, ast.ClassDef)}
+            taken |= {alias.name for node in tree.body if isinstance(node, ast.ImportFrom) for alias in node.names}
+            for node in ast.walk(tree):
+                if isinstance(node, ast.arg) or isinstance(node, ast.Name) and isinstance(node.ctx, ast.Store):
+                    with self.subTest(file=name, line=node.lineno):
+                        self.assertNotIn(name_of(node), taken)
+
+    def test_is_stands_beside_none_true_and_false_alone(self):
+        for name, node in nodes():
+            if isinstance(node, ast.Compare) and any(isinstance(one, (ast.Is, ast.IsNot)) for one in node.ops):
+                with self.subTest(file=name, line=node.lineno):
+                    self.assertIn(ast.unparse(node.comparators[0]), ("None", "True", "False"))
+
+    def test_what_is_walked_is_walked_on_the_spot(self):
+        for name, node, above in placed_nodes():
+            if called(node) not in WALKED:
+                continue
+            with self.subTest(file=name, line=node.lineno):
+                if isinstance(above, (ast.For, ast.comprehension)):
+                    self.assertIs(above.iter, node)
+                else:
+                    self.assertIn(called(above), WALKERS)
+                    self.assertIs(above.args[0], node)
+
+    def test_a_set_is_not_kept(self):
+        for name, tree in parsed():
+            spots = []
+            for node in ast.walk(tree):
+                if isinstance(node, ast.Compare):
+                    spots += node.comparators + [node.left]
+                elif called(node) in ("sorted", "len"):
+                    spots += parts(node.args[0])
+            for node in ast.walk(tree):
+                if called(node) in ("set", "frozenset"):
+                    with self.subTest(file=name, line=node.lineno):
+                        self.assertIn(node, spots)
+
+    def test_keywords_at_pythons_own(self):
+        allowed = {"sorted": {"key", "reverse"}, "min": {"key", "default"}, "max": {"key", "default"},
+                   "sum": {"start"}, "enumerate": {"start"}, "zip": {"strict"}}
+        for name, node in nodes():
+            word = called(node)
+            if word in OWN_NAMES:
+                with self.subTest(file=name, line=node.lineno):
+                    self.assertLessEqual({keyword.arg for keyword in node.keywords}, allowed.get(word, set()))
 
     def test_no_name_is_a_method_here_and_a_value_there(self):
         methods = {item.name for _, node in nodes() if isinstance(node, ast.ClassDef)

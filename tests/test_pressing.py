@@ -1,43 +1,18 @@
 """Points 1, 5 and 6: lights behind presses, and games."""
 
 import itertools
-import unittest
 
-from lampyard.errors import LampError, NoLamp, NoPress
+from lampyard.errors import NoLamp, NoPress
 from lampyard.pressing import Game, pressed
 from lampyard.yard import Yard
-
-PAIRS = ((0, 1), (0, 2), (1, 2))
-
-
-def built(many, ties=(), shy=()):
-    yard = Yard(many)
-    for one, other in ties:
-        yard.tie(one, other)
-    for lamp in shy:
-        yard.set_shy(lamp)
-    return yard
-
-
-def all_turns(yard):
-    return [yard.turns(lamp) for lamp in range(yard.many)]
+from tests.helper import LampCase, all_turns, built, every_yard, lit_in
 
 
 def no_lamps(many):
     return (-1, -many, many, many + 1, 10 ** 20, -10 ** 20, 10 ** 5000)
 
 
-def lit_in(many, lamps):
-    return [lamp in lamps for lamp in range(many)]
-
-
-class PressingCase(unittest.TestCase):
-    def refused(self, kind, call, *handed):
-        for _ in range(2):
-            with self.assertRaises(LampError) as caught:
-                call(*handed)
-            self.assertIs(type(caught.exception), kind)
-
+class PressingCase(LampCase):
     def assert_light(self, told, wanted):
         self.assertIs(type(told), list)
         self.assertEqual(told, wanted)
@@ -81,9 +56,7 @@ class PressedTest(PressingCase):
         self.assert_light(pressed(yard, [False] * 24, [5, 23, 5] * 1000 + [23]), lit_in(24, range(23)))
 
     def test_every_yard_and_light_of_three_lamps(self):
-        for bits in itertools.product((False, True), repeat=6):
-            ties = [pair for pair, tied in zip(PAIRS, bits) if tied]
-            shy = [lamp for lamp in range(3) if bits[3 + lamp]]
+        for ties, shy in every_yard(3):
             yard = built(3, ties, shy)
             for light in itertools.product((False, True), repeat=3):
                 for presses in itertools.product(range(3), repeat=3):

@@ -1,10 +1,10 @@
 """Points 1 to 4: yards, their ties, their shy lamps, and what their buttons turn."""
 
 import itertools
-import unittest
 
-from lampyard.errors import Alone, LampError, NoLamp, NoYard, Tied, Untied
+from lampyard.errors import Alone, NoLamp, NoYard, Tied, Untied
 from lampyard.yard import Yard
+from tests.helper import LampCase, all_told, built, every_yard
 
 SIZES = (1, 2, 3, 7, 12, 23, 24)
 FAR = (10 ** 20, -10 ** 20, 10 ** 5000, -10 ** 5000)
@@ -14,37 +14,11 @@ def no_lamps(many):
     return (-1, -many, -many - 1, many, many + 1) + FAR
 
 
-def all_told(yard):
-    """All that a yard can be asked, asked anew."""
-    lamps = range(yard.many)
-    ties = [(one, other, yard.is_tied(one, other)) for one in lamps for other in lamps if one != other]
-    return yard.many, ties, [yard.is_shy(lamp) for lamp in lamps], [yard.turns(lamp) for lamp in lamps]
-
-
 def some_yard():
-    yard = Yard(6)
-    for one, other in ((0, 5), (3, 1), (1, 5), (4, 5)):
-        yard.tie(one, other)
-    yard.set_shy(1)
-    yard.set_shy(2)
-    return yard
+    return built(6, ((0, 5), (3, 1), (1, 5), (4, 5)), (1, 2))
 
 
-class YardCase(unittest.TestCase):
-    def refused(self, kind, call, *handed):
-        """The very class is asked for, and it is asked twice: a refusal leaves nothing behind."""
-        for _ in range(2):
-            with self.assertRaises(LampError) as caught:
-                call(*handed)
-            self.assertIs(type(caught.exception), kind)
-
-    def refused_unchanged(self, yard, kind, call, *handed):
-        before = all_told(yard)
-        self.refused(kind, call, *handed)
-        self.assertEqual(all_told(yard), before)
-
-
-class NewYardTest(YardCase):
+class NewYardTest(LampCase):
     def test_a_new_yard_has_its_lamps_no_ties_and_none_shy(self):
         for many in SIZES:
             with self.subTest(many=many):
@@ -65,7 +39,7 @@ class NewYardTest(YardCase):
                 self.refused(NoYard, Yard, many)
 
 
-class TieTest(YardCase):
+class TieTest(LampCase):
     def test_a_tie_is_seen_from_both_lamps_and_gives_back_nothing(self):
         for one, other in itertools.permutations((0, 1, 4, 23), 2):
             with self.subTest(one=one, other=other):
@@ -124,7 +98,7 @@ class TieTest(YardCase):
         self.assertEqual(all_told(second), before)
 
 
-class TieRefusalTest(YardCase):
+class TieRefusalTest(LampCase):
     def asks(self, yard):
         return (yard.tie, yard.untie, yard.is_tied)
 
@@ -174,7 +148,7 @@ class TieRefusalTest(YardCase):
         self.refused_unchanged(yard, Untied, yard.untie, 5, 0)
 
 
-class ShyTest(YardCase):
+class ShyTest(LampCase):
     def test_a_lamp_is_set_shy_alone_and_gives_back_nothing(self):
         for lamp in (0, 3, 23):
             with self.subTest(lamp=lamp):
@@ -209,7 +183,7 @@ class ShyTest(YardCase):
                 self.refused_unchanged(yard, NoLamp, yard.is_shy, wrong)
 
 
-class TurnsTest(YardCase):
+class TurnsTest(LampCase):
     def test_no_ties_some_and_all(self):
         yard = Yard(5)
         self.assertEqual(yard.turns(2), [2])
@@ -257,16 +231,9 @@ class TurnsTest(YardCase):
         self.assertEqual([yard.turns(lamp) for lamp in range(3)], [[0, 1], [0, 1, 2], [1, 2]])
 
     def test_every_yard_of_three_lamps(self):
-        pairs = list(itertools.combinations(range(3), 2))
-        for bits in itertools.product((False, True), repeat=6):
-            ties = [pair for pair, tied in zip(pairs, bits) if tied]
-            shy = [lamp for lamp in range(3) if bits[3 + lamp]]
+        for ties, shy in every_yard(3):
             with self.subTest(ties=ties, shy=shy):
-                yard = Yard(3)
-                for one, other in ties:
-                    yard.tie(one, other)
-                for lamp in shy:
-                    yard.set_shy(lamp)
+                yard = built(3, ties, shy)
                 for lamp in range(3):
                     wanted = {other for pair in ties if lamp in pair for other in pair} - {lamp}
                     wanted = wanted if lamp in shy else wanted | {lamp}
